@@ -1,0 +1,78 @@
+"""What holds of the package's files themselves, and where its names stand."""
+import ast
+import inspect
+import pathlib
+import unittest
+
+from tiedtables import errors, plans, ties
+
+FOLDER = pathlib.Path(errors.__file__).parent
+# Each function of the interface with its arguments, under its file.
+FUNCTIONS = {
+    plans: {
+        "is_tables": ["thing"],
+        "column_place": ["tables", "table", "column"],
+        "fallback_of": ["tables", "table", "column"],
+    },
+    ties: {
+        "is_ties": ["tables", "thing"],
+        "tie_of": ["plan", "tie"],
+        "ties_on": ["plan", "table"],
+    },
+}
+CLASSES = [
+    "TableError", "Taken", "NoRow", "Barred", "Parted", "Loose", "Stopped", "NoKey",
+    "TooMany", "Ring", "BadLine", "Open", "NotOpen", "NoSuch",
+]
+
+
+class InterfaceTest(unittest.TestCase):
+    def test_functions_stand_in_their_files(self):
+        for module, functions in FUNCTIONS.items():
+            for name, arguments in functions.items():
+                with self.subTest(name=name):
+                    told = getattr(module, name)
+                    self.assertEqual(told.__module__, module.__name__)
+                    self.assertEqual(list(inspect.signature(told).parameters), arguments)
+
+    def test_classes_stand_in_errors(self):
+        for name in CLASSES:
+            with self.subTest(name=name):
+                self.assertEqual(getattr(errors, name).__module__, errors.__name__)
+
+
+class FilesTest(unittest.TestCase):
+    def setUp(self):
+        entries = [entry for entry in FOLDER.iterdir() if entry.name != "__pycache__"]
+        self.sources = {entry.name: entry.read_text("utf-8") for entry in entries}
+
+    def test_the_folder_holds_plain_files_alone(self):
+        self.assertIn("__init__.py", self.sources)
+        for name in self.sources:
+            self.assertRegex(name, r"\A[a-z_][a-z0-9_]*\.py\Z")
+
+    def test_signs_and_lengths(self):
+        for name, source in self.sources.items():
+            lines = source.split("\n")
+            with self.subTest(name=name):
+                self.assertLessEqual(len(lines), 399)
+                self.assertLessEqual(max(map(len, lines)), 120)
+                self.assertRegex(source, r"\A[ -~\n]*\Z")
+
+    def test_functions_are_short(self):
+        for name, source in self.sources.items():
+            for node in ast.walk(ast.parse(source)):
+                if isinstance(node, ast.FunctionDef):
+                    with self.subTest(name=name, function=node.name):
+                        self.assertLess(node.end_lineno - node.lineno, 40)
+
+    def test_imports_are_from_the_package(self):
+        library = ("heapq", "math", "itertools", "collections")
+        for name, source in self.sources.items():
+            for node in ast.walk(ast.parse(source)):
+                with self.subTest(name=name):
+                    self.assertNotIsInstance(node, ast.Import)
+                    if isinstance(node, ast.ImportFrom):
+                        self.assertEqual(node.level, 0)
+                        first = node.module.split(".")[0]
+                        self.assertIn(first, ("tiedtables",) + library)
