@@ -1,4 +1,5 @@
-"""Ways to spoil a thing made of tuples, one part at a time."""
+"""Ways to spoil a thing, one part at a time, and to ask questions of all shapes."""
+import unittest
 
 A_BILLION = 10 ** 9
 
@@ -71,3 +72,72 @@ def with_part_more(thing, place, part):
 
 def with_part_fewer(thing, place):
     return spoiled(thing, place, part_at(thing, place)[:-1])
+
+
+def tupled(thing):
+    """The thing with tuples for all its lists."""
+    if isinstance(thing, (tuple, list)):
+        return tuple(tupled(part) for part in thing)
+    return thing
+
+
+def as_it_is(thing):
+    return thing
+
+
+# What a list may stand for, and what a tuple may, handed in each way.
+SHAPES = (as_it_is, listed, tupled)
+
+
+def lists_in(thing):
+    """Every list in a thing."""
+    told = [thing] if isinstance(thing, list) else []
+    if isinstance(thing, (tuple, list)):
+        for part in thing:
+            told.extend(lists_in(part))
+    return told
+
+
+class Asking(unittest.TestCase):
+    """Asks so that all that [2] says of questions is looked at on the way."""
+
+    def assert_tells(self, answer, ask, *things, **named):
+        """The answer, whatever stands for lists and tuples, each time anew."""
+        for shape in SHAPES:
+            made, more = shape(list(things)), {name: shape(named[name]) for name in named}
+            before = repr((made, more))
+            with self.subTest(ask=ask.__name__, made=made, more=more):
+                told, again = ask(*made, **more), ask(*made, **more)
+                # By repr: 1 is not True there, nor a list a tuple.
+                self.assertEqual(repr(told), repr(answer))
+                self.assertEqual(repr(again), repr(answer))
+                told_lists = lists_in(told) + lists_in(again)
+                unlike = {id(part) for part in told_lists + lists_in((made, more))}
+                apart = len(told_lists) + len({id(part) for part in lists_in((made, more))})
+                self.assertEqual(len(unlike), apart)
+                for part in lists_in(told):
+                    part.append("more")
+                self.assertEqual(repr(ask(*made, **more)), repr(answer))
+                self.assertEqual(repr((made, more)), before)
+
+    def assert_answers(self, answer, ask, *things):
+        """True or False itself, of the last one as it is, the others in any shape."""
+        for shape in SHAPES:
+            made = shape(list(things[:-1]))
+            before = repr((made, things[-1]))
+            with self.subTest(ask=ask.__name__, made=made, thing=things[-1]):
+                self.assertIs(ask(*made, things[-1]), answer)
+                self.assertEqual(repr((made, things[-1])), before)
+
+    def assert_refused(self, error, fields, ask, *things, **named):
+        """Refused by this very class, with these fields."""
+        for shape in SHAPES:
+            made = shape(list(things))
+            before = repr(made)
+            with self.subTest(ask=ask.__name__, made=made, named=named):
+                with self.assertRaises(error) as caught:
+                    ask(*made, **named)
+                self.assertIs(type(caught.exception), error)
+                told = {name: getattr(caught.exception, name) for name in fields}
+                self.assertEqual(repr(told), repr(fields))
+                self.assertEqual(repr(made), before)

@@ -36,6 +36,19 @@ def table_names(tables):
     return [table for table, _ in tables]
 
 
+def table_place(tables, table):
+    """Which one of the tables it is, counted from 0."""
+    names = table_names(tables)
+    if table not in names:
+        raise NoSuch("table", table)
+    return names.index(table)
+
+
+def key_column(tables, table):
+    """The name of the table's first column."""
+    return column_names(tables, table)[0]
+
+
 def column_names(tables, table):
     """The names of the table's columns, in order, the key ahead."""
     return [column for column, _ in _columns_of(tables, table)]

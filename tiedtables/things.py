@@ -9,11 +9,14 @@ def is_number(thing):
     return isinstance(thing, int) and not isinstance(thing, bool)
 
 
+def is_bounded(thing):
+    """Whether thing is a number that may be handed in."""
+    return is_number(thing) and -MOST_NUMBER <= thing <= MOST_NUMBER
+
+
 def is_worth(thing):
     """Whether thing may be handed in as a worth."""
-    if thing is None:
-        return True
-    return is_number(thing) and -MOST_NUMBER <= thing <= MOST_NUMBER
+    return thing is None or is_bounded(thing)
 
 
 def is_name(thing):
@@ -31,3 +34,18 @@ def is_tuple(thing, least, most):
 def are_unlike(names):
     """Whether no name is told twice."""
     return len(set(names)) == len(names)
+
+
+def is_same(thing, told):
+    """Whether thing is what was told: a list is no tuple, and True is not 1."""
+    if isinstance(told, list):
+        return isinstance(thing, list) and _are_same(thing, told)
+    if isinstance(told, tuple):
+        return isinstance(thing, tuple) and _are_same(thing, told)
+    return isinstance(thing, bool) == isinstance(told, bool) and thing == told
+
+
+def _are_same(parts, told):
+    if len(parts) != len(told):
+        return False
+    return all([is_same(part, other) for part, other in zip(parts, told)])
