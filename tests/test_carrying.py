@@ -1,5 +1,6 @@
 from tests import naive
 from tests.dice import cast
+from tests.house import TABLES, plan_of, tie
 from tests.parts import A_BILLION, Asking
 from tiedtables.carrying import bars, brought, carried, parts
 from tiedtables.contents import changed, is_content
@@ -7,22 +8,6 @@ from tiedtables.deeds import is_deed, own_part
 from tiedtables.errors import Barred, Loose, NoRow, Parted, TableError, Taken
 from tiedtables.plans import is_tables
 from tiedtables.ties import is_ties
-
-# The tables do not stand by their names, nor do their columns.
-TABLES = (
-    ("rooms", (("id", None), ("size", 4))),
-    ("beds", (("id", None), ("room", -1), ("next", 7), ("back", None))),
-    ("keys", (("room", None), ("held", 2))),
-    ("age", (("id", None), ("bed", 0))),
-)
-
-
-def plan_of(*ties):
-    return (TABLES, ties, ())
-
-
-def tie(name, table, column, other, gone="look", turned="look", when="end"):
-    return (name, table, column, other, gone, turned, when)
 
 
 class Carrying(Asking):

@@ -4,7 +4,8 @@ import inspect
 import pathlib
 import unittest
 
-from tiedtables import carrying, contents, deeds, errors, leaning, plans, ties
+from tiedtables import (
+    carrying, contents, deeds, errors, freely, leaning, plans, rules, ties, ways)
 
 FOLDER = pathlib.Path(errors.__file__).parent
 # Each function of the interface with its arguments, under its file.
@@ -39,6 +40,21 @@ FUNCTIONS = {
         "bars": ["plan", "content", "deed"],
         "parts": ["plan", "content", "deed"],
         "carried": ["plan", "content", "deed"],
+    },
+    ways: {
+        "way_to": ["plan", "content", "deed", "table", "key", "column"],
+        "parting": ["plan", "content", "deed"],
+        "shows_way": [
+            "plan", "content", "deed", "table", "key", "column", "worth", "thing"],
+        "shows_brought": ["plan", "content", "deed", "thing"],
+    },
+    freely: {
+        "steps_next": ["plan", "content", "deed", "steps"],
+        "ended": ["plan", "content", "deed", "steps"],
+        "shows_order": ["plan", "content", "deed", "thing"],
+    },
+    rules: {
+        "is_rules": ["tables", "thing"],
     },
 }
 CLASSES = [

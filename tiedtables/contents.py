@@ -19,9 +19,9 @@ def is_content(tables, thing):
 
 def row_of(tables, content, table, key):
     """The table's row of that key, None where there is none."""
-    for row in rows_of(tables, content, table):
+    for row in content[table_place(tables, table)]:
         if row[0] == key:
-            return row
+            return tuple(row)
     return None
 
 
@@ -43,6 +43,13 @@ def changed(tables, content, gone, cells, rows):
 def rows_of(tables, content, table):
     """The table's rows, rising by keys, a list of tuples."""
     return [tuple(row) for row in content[table_place(tables, table)]]
+
+
+def is_row(width, thing):
+    """Whether thing is a row of a table of so many columns."""
+    if not is_tuple(thing, width, width) or thing[0] is None:
+        return False
+    return all([is_worth(worth) for worth in thing])
 
 
 def _sets_by_row(tables, cells):
@@ -73,12 +80,6 @@ def _risen(table, rows):
 def _is_rows(width, thing):
     if not isinstance(thing, list):
         return False
-    if not all([_is_row(width, row) for row in thing]):
+    if not all([is_row(width, row) for row in thing]):
         return False
     return all([row[0] < after[0] for row, after in zip(thing, thing[1:])])
-
-
-def _is_row(width, thing):
-    if not is_tuple(thing, width, width) or thing[0] is None:
-        return False
-    return all([is_worth(worth) for worth in thing])

@@ -1,6 +1,6 @@
 """Deeds: what may be done to a content, and what each does by itself."""
 
-from tiedtables.contents import row_of, rows_of
+from tiedtables.contents import is_row, row_of, rows_of
 from tiedtables.errors import NoRow, Taken
 from tiedtables.plans import column_names, column_place, table_names
 from tiedtables.things import is_bounded, is_tuple, is_worth
@@ -18,7 +18,7 @@ def is_deed(tables, thing):
     kind, table = thing[:2]
     columns = column_names(tables, table)
     if kind == "put":
-        return _is_put_row(len(columns), thing[2])
+        return is_row(len(columns), thing[2])
     if kind == "drop":
         return is_bounded(thing[2])
     if kind == "set":
@@ -84,12 +84,6 @@ def _row_there(tables, content, table, key):
     if row is None:
         raise NoRow(table, key)
     return row
-
-
-def _is_put_row(width, thing):
-    if not is_tuple(thing, width, width) or thing[0] is None:
-        return False
-    return all([is_worth(worth) for worth in thing])
 
 
 def _is_cell(columns, column, worth):
