@@ -15,3 +15,11 @@ def plan_of(*ties):
 
 def tie(name, table, column, other, gone="look", turned="look", when="end"):
     return (name, table, column, other, gone, turned, when)
+
+
+def rule(name, side, table, kind, column=None, test=None, acts=()):
+    return (name, side, table, kind, column, test, acts)
+
+
+def plan_with(ties, rules):
+    return (TABLES, tuple(ties), tuple(rules))

@@ -20,6 +20,12 @@ NO_TUPLES = (
     (None,), (True,), (0,), ("a",), (("a",),), ((),), ([],), (((),),),
 )
 
+# Of all that a thing may be made of, a little.
+ODD_PARTS = NO_TUPLES + (
+    True, False, -1, 2, 3, 4, 5, 12, 10 ** 12, " ", "~", "deed", "age", "beds", "rooms",
+    ("deed",), ("tie", "in", 0), [[], [], [], []], [(), ()], [[[[[[[0]]]]]]], [0], [None],
+)
+
 
 def places(thing, ahead=()):
     """Every place in a thing of tuples and lists, () for the whole of it."""
@@ -128,6 +134,23 @@ class Asking(unittest.TestCase):
             with self.subTest(ask=ask.__name__, made=made, thing=things[-1]):
                 self.assertIs(ask(*made, things[-1]), answer)
                 self.assertEqual(repr((made, things[-1])), before)
+
+    def assert_only(self, right, ask, *things):
+        """True of the right thing alone, and of none that is otherwise at one place."""
+        self.assert_answers(True, ask, *things, right)
+        for place in places(right):
+            part = part_at(right, place)
+            others = list(ODD_PARTS) + [(part,), [part]]
+            if isinstance(part, (list, tuple)):
+                others += [remade(part, [*part, more]) for more in (None, 0, 1, "a", (), [])]
+                others += [remade(part, part[:at] + part[at + 1:]) for at in range(len(part))]
+                others.append(tuple(part) if isinstance(part, list) else list(part))
+                others.append(remade(part, part[::-1]))
+            for other in others:
+                thing = spoiled(right, place, other)
+                answer = repr(thing) == repr(right)
+                with self.subTest(ask=ask.__name__, things=things, thing=thing):
+                    self.assertIs(ask(*things, thing), answer)
 
     def assert_refused(self, error, fields, ask, *things, **named):
         """Refused by this very class, with these fields."""

@@ -5,7 +5,8 @@ import pathlib
 import unittest
 
 from tiedtables import (
-    carrying, contents, deeds, errors, freely, leaning, plans, rules, ties, ways)
+    carrying, contents, deeds, errors, freely, journals, leaning, orders, plans, ranks, rules,
+    running, ties, ways)
 
 FOLDER = pathlib.Path(errors.__file__).parent
 # Each function of the interface with its arguments, under its file.
@@ -55,6 +56,25 @@ FUNCTIONS = {
     },
     rules: {
         "is_rules": ["tables", "thing"],
+    },
+    ranks: {
+        "may_bring": ["plan", "table", "kind", "column"],
+        "sets_off": ["plan"],
+        "ranks": ["plan"],
+        "is_ranks": ["plan", "thing"],
+        "is_ring": ["plan", "thing"],
+    },
+    running: {
+        "ran": ["plan", "content", "deed", "*order", "*most"],
+    },
+    journals: {
+        "gone_through": ["tables", "content", "journal"],
+        "source_of": ["journal", "number"],
+        "shows_journal": ["tables", "content", "journal", "thing"],
+    },
+    orders: {
+        "two_orders": ["plan", "content", "deed", "*most"],
+        "meets": ["plan"],
     },
 }
 CLASSES = [

@@ -14,19 +14,7 @@ from tiedtables.ties import ties_on
 
 def brought(plan, content, deed):
     """The rows that go and the cells that are changed, those of the deed itself among them."""
-    came = spread(plan, content, deed)
-    barring = _bars_of(plan, content, came)
-    if barring:
-        tie, key = barring[0]
-        raise Barred(tie, key)
-    parted = _parts_of(plan[0], came)
-    if parted:
-        table, key, column, _ = parted[0]
-        raise Parted(table, key, column)
-    steps = risen_steps(plan[0], list(came))
-    gone = [step[1:] for step in steps if step[0] == "gone"]
-    cells = [step[1:] for step in steps if step[0] == "cell"]
-    return (gone, [cell for cell in cells if not _stays(plan[0], content, cell)])
+    return brought_by(plan, content, spread(plan, content, deed))
 
 
 def bars(plan, content, deed):
@@ -43,6 +31,11 @@ def carried(plan, content, deed):
     """The content behind the deed and all that it brings."""
     gone, cells = brought(plan, content, deed)
     _, _, rows = own_part(plan[0], content, deed)
+    return settled(plan, content, gone, cells, rows)
+
+
+def settled(plan, content, gone, cells, rows):
+    """The content so changed, refused where a tie of "once" is loose in it."""
     told = changed(plan[0], content, gone, cells, rows)
     pairs = loose(plan, told, when="once")
     if pairs:
@@ -54,13 +47,30 @@ def spread(plan, content, deed):
     """All steps that the deed brings, those nearest to it ahead: by each what it came of.
 
     That is None where the deed itself does it, else a pair of the step that it
-    came straight of and the (tie, key) by which it did.
+    came straight of and the (tie, key) by which it did: of the nearest such steps
+    the first one, rising, and of several ties the first.
     """
     leaners = leaners_of(plan, content)
     first = own_steps(plan[0], content, deed)
     # Whether a row goes hangs on no cell: a round that spares no cell tells who goes.
     going = rows_going(list(_reached(plan, leaners, first, {})))
     return _reached(plan, leaners, first, going)
+
+
+def brought_by(plan, content, came):
+    """What brought tells of the steps that spread tells, and refuses of them."""
+    barring = _bars_of(plan, content, came)
+    if barring:
+        tie, key = barring[0]
+        raise Barred(tie, key)
+    parted = _parts_of(plan[0], came)
+    if parted:
+        table, key, column, _ = parted[0]
+        raise Parted(table, key, column)
+    steps = risen_steps(plan[0], list(came))
+    gone = [step[1:] for step in steps if step[0] == "gone"]
+    cells = [step[1:] for step in steps if step[0] == "cell"]
+    return (gone, [cell for cell in cells if not _stays(plan[0], content, cell)])
 
 
 def own_steps(tables, content, deed):
@@ -106,7 +116,7 @@ def _reached(plan, leaners, first, going):
     level = first
     while level:
         found = []
-        for step in level:
+        for step in risen_steps(plan[0], level):
             for pair, behind in steps_behind(plan, leaners, step):
                 if behind not in came and not is_of_going(behind, going):
                     came[behind] = (step, pair)

@@ -28,14 +28,14 @@ def row_of(tables, content, table, key):
 def changed(tables, content, gone, cells, rows):
     """The content without the rows gone, with the cells so set, and the rows put in."""
     left = {(table, key): True for table, key in gone}
-    sets = _sets_by_row(tables, cells)
+    sets = sets_by_row(tables, cells)
     told = []
     for name in table_names(tables):
         fresh = [tuple(row) for table, row in rows if table == name]
         for row in rows_of(tables, content, name):
             at = (name, row[0])
             if at not in left:
-                fresh.append(_with_sets(row, sets.get(at, [])))
+                fresh.append(with_sets(row, sets.get(at, [])))
         told.append(_risen(name, fresh))
     return told
 
@@ -45,14 +45,7 @@ def rows_of(tables, content, table):
     return [tuple(row) for row in content[table_place(tables, table)]]
 
 
-def is_row(width, thing):
-    """Whether thing is a row of a table of so many columns."""
-    if not is_tuple(thing, width, width) or thing[0] is None:
-        return False
-    return all([is_worth(worth) for worth in thing])
-
-
-def _sets_by_row(tables, cells):
+def sets_by_row(tables, cells):
     """By (table, key) the pairs (place, worth) of that row's cells."""
     sets = {}
     for table, key, column, worth in cells:
@@ -61,11 +54,19 @@ def _sets_by_row(tables, cells):
     return sets
 
 
-def _with_sets(row, sets):
+def with_sets(row, sets):
+    """The row with each (place, worth) of the sets in it."""
     worths = list(row)
     for place, worth in sets:
         worths[place] = worth
     return tuple(worths)
+
+
+def is_row(width, thing):
+    """Whether thing is a row of a table of so many columns."""
+    if not is_tuple(thing, width, width) or thing[0] is None:
+        return False
+    return all([is_worth(worth) for worth in thing])
 
 
 def _risen(table, rows):
