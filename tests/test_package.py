@@ -5,8 +5,8 @@ import pathlib
 import unittest
 
 from tiedtables import (
-    carrying, contents, deeds, errors, freely, journals, leaning, orders, plans, ranks, rules,
-    running, ties, ways)
+    carrying, contents, contenttexts, deeds, desk, errors, freely, journals, leaning, orders,
+    plans, plantexts, ranks, rules, running, store, ties, ways)
 
 FOLDER = pathlib.Path(errors.__file__).parent
 # Each function of the interface with its arguments, under its file.
@@ -76,6 +76,26 @@ FUNCTIONS = {
         "two_orders": ["plan", "content", "deed", "*most"],
         "meets": ["plan"],
     },
+    store: {
+        "Store": ["plan", "*content", "*most"],
+    },
+    plantexts: {
+        "plan_text": ["plan"],
+        "plan_from": ["text"],
+    },
+    contenttexts: {
+        "content_text": ["tables", "content"],
+        "content_from": ["tables", "text"],
+    },
+    desk: {
+        "run": ["text"],
+    },
+}
+# Each method of the store, with its arguments behind the store itself.
+METHODS = {
+    "do": ["deed"], "content": [], "row": ["table", "key"], "__len__": [], "__eq__": ["other"],
+    "journal": ["*first"], "begin": [], "point": ["*name"], "back": ["*to"], "leave": [], "end": [],
+    "is_open": [], "book": [], "since": ["number"], "why": ["number"], "twin": [],
 }
 CLASSES = [
     "TableError", "Taken", "NoRow", "Barred", "Parted", "Loose", "Stopped", "NoKey",
@@ -97,6 +117,22 @@ class InterfaceTest(unittest.TestCase):
                     told = getattr(module, name)
                     self.assertEqual(told.__module__, module.__name__)
                     self.assertEqual(arguments_of(told), arguments)
+
+    def test_methods_stand_in_the_class_itself(self):
+        for name, arguments in METHODS.items():
+            with self.subTest(name=name):
+                self.assertEqual(arguments_of(vars(store.Store)[name])[1:], arguments)
+
+    def test_defaults(self):
+        for function, defaults in (
+                (ranks.may_bring, {"column": None}), (running.ran, {"order": (), "most": 40}),
+                (orders.two_orders, {"most": 5}), (store.Store, {"content": (), "most": 40}),
+                (store.Store.journal, {"first": 0}), (store.Store.point, {"name": ""}),
+                (store.Store.back, {"to": ""}), (leaning.loose, {"when": None}),
+                (ways.way_to, {"column": None})):
+            told = inspect.signature(function).parameters.values()
+            given = {one.name: one.default for one in told if one.default is not one.empty}
+            self.assertEqual(given, defaults)
 
     def test_classes_stand_in_errors(self):
         for name in CLASSES:

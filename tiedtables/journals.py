@@ -51,12 +51,24 @@ def entries_of(tables, content, part, came, first, cause):
     return [(*line, own) for line, own in zip(lines, causes)]
 
 
+def numbered_on(journal, entries):
+    """The entries of one more run as they stand behind the journal, numbered on from it."""
+    first = len(journal)
+    deeds = max([entry[0] + 1 for entry in journal], default=0)
+    return [(deeds + entry[0], *entry[1:6], _cause_on(entry[6], first)) for entry in entries]
+
+
 def row_numbers(entries, first):
     """By (table, key) the number of the row's first entry, counted from first on."""
     told = {}
     for number, entry in enumerate(entries, first):
         told.setdefault((entry[1], entry[2]), number)
     return told
+
+
+def _cause_on(cause, first):
+    """The cause with its entry, where it has one, counted from first on."""
+    return cause if cause[0] == "deed" else (*cause[:2], first + cause[2])
 
 
 def _part_of(entries):

@@ -1,4 +1,4 @@
-"""What the is_.. functions ask of the parts of a thing."""
+"""Things of numbers, texts, lists and tuples: what is asked of their parts, and copies."""
 
 MOST_LETTERS = 8
 MOST_NUMBER = 1_000_000_000
@@ -34,6 +34,13 @@ def is_tuple(thing, least, most):
 def are_unlike(names):
     """Whether no name is told twice."""
     return len(set(names)) == len(names)
+
+
+def tupled(thing):
+    """A copy of the thing, with tuples for all its lists."""
+    if isinstance(thing, (list, tuple)):
+        return tuple([tupled(part) for part in thing])
+    return thing
 
 
 def is_same(thing, told):
