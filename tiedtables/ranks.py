@@ -15,11 +15,12 @@ def may_bring(plan, table, kind, column=None):
     found = {first: True}
     left = [first]
     while left:
-        for then in _kinds_behind(plan, left.pop()):
+        change = left.pop()
+        for then in _kinds_behind(plan, change):
             if then not in found:
                 found[then] = True
                 left.append(then)
-    return sorted(list(found), key=lambda change: _kind_place(plan[0], change))
+    return sorted(list(found), key=lambda one: _kind_place(plan[0], one))
 
 
 def sets_off(plan):
