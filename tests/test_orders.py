@@ -1,5 +1,5 @@
 from tests import naive_run
-from tests.dice import cast_run
+from tests.dice import Dice, cast_run
 from tests.house import plan_of, plan_with, rule, tie
 from tests.parts import Asking
 from tiedtables.errors import TableError, TooMany
@@ -277,6 +277,33 @@ class MeetsTest(Asking):
                 with self.subTest(seed=seed):
                     self.assertIsNone(told)
         self.assertGreater(asked, 0)
+
+
+class AnyOrderTest(Asking):
+    def end(self, plan, content, deed, order):
+        try:
+            return ran(plan, content, deed, order=order)[0]
+        except TableError:
+            return None
+
+    def test_where_none_part_any_order_comes_to_one_end(self):
+        asked = 0
+        for seed in range(600):
+            plan, content, deed = cast_run(seed)
+            if ranks(plan)[1] is not None:
+                continue
+            try:
+                if two_orders(plan, content, deed) is not None:
+                    continue
+            except TooMany:
+                continue
+            dice, first = Dice(seed), self.end(plan, content, deed, ())
+            for _ in range(4):
+                order = [dice.below(9) for _ in range(5)]
+                with self.subTest(seed=seed, order=order):
+                    self.assertEqual(self.end(plan, content, deed, order), first)
+            asked += 1
+        self.assertGreater(asked, 100)
 
 
 class RefusedOrdersTest(Asking):
